@@ -1,0 +1,1 @@
+"""Lockstretch: stretches of files, locked by tasks and by open marks."""
