@@ -43,45 +43,51 @@ def ask_of(tables, task, mark, kind, stretch, by):
     return (tables.given["ask"], task, tables.opened[mark][0], kind, stretch, by, holder)
 
 
-def lock_is_against(row, ask):
-    """Whether a lock on a stretch of the ask's file is against the ask, which is for a stretch too."""
-    first, end, kind, by, number = row
-    if (by, number) == ask[5:] or "alone" not in (kind, ask[3]):
-        return False
-    return meets((first, end), ask[4])
+def clash(kind, other):
+    """Whether locks of these kinds can not be on the same cell, or file, for unlike holders."""
+    return "alone" in (kind, other)
 
 
-def whole_is_against(row, ask):
-    """Whether a whole lock of the ask's file is against the ask, which is for the whole file too."""
-    mark, kind = row
-    return mark != ask[6] and "alone" in (kind, ask[3])
+def blocking_stretches(tables, ask):
+    """The locks on stretches against an ask for a stretch, in the order in which they are told."""
+    number, task, file, kind, stretch, by, holder = ask
+    rows = []
+    for other, (shared, alone) in tables.held[file].items():
+        if other != (by, holder):
+            for other_kind, lot in (("shared", shared), ("alone", alone)):
+                if clash(kind, other_kind):
+                    rows.extend([part + (other_kind,) + other for part in lot if meets(part, stretch)])
+    return sorted(rows, key=lock_order)
 
 
-def ask_is_against(other, ask):
-    """Whether two asks are against one another."""
-    if other[2] != ask[2] or (other[4] is None) != (ask[4] is None):
-        return False
-    if ask[4] is None:
-        return whole_is_against((other[6], other[3]), ask)
-    return lock_is_against(other[4] + (other[3],) + other[5:], ask)
+def blocking_wholes(tables, ask):
+    """The whole locks against an ask for a whole file, in the order in which they are told."""
+    number, task, file, kind, stretch, by, holder = ask
+    return [row for row in told_whole(tables, file) if row[0] != holder and clash(kind, row[1])]
 
 
 def blocking_locks(tables, ask):
     """The locks against the ask, in the order in which they are told."""
-    file = ask[2]
     if ask[4] is None:
-        return [row for row in told_whole(tables, file) if whole_is_against(row, ask)]
-    # Few of the locks are left, so they are put in order last.
-    rows = [row for row in lock_rows(tables, file) if lock_is_against(row, ask)]
-    return sorted(rows, key=lock_order)
+        return blocking_wholes(tables, ask)
+    return blocking_stretches(tables, ask)
+
+
+def asks_are_against(one, other):
+    """Whether two asks are against one another."""
+    if one[2] != other[2] or one[5:] == other[5:] or not clash(one[3], other[3]):
+        return False
+    if one[4] is None or other[4] is None:
+        return one[4] == other[4]
+    return meets(one[4], other[4])
 
 
 def blocking_asks(tables, ask):
     """The numbers of the elder asks that block the ask, rising; there are none but in a fair desk."""
     if not tables.fair:
         return []
-    elder = [number for number in sorted(tables.waiting) if number < ask[0]]
-    return [number for number in elder if ask_is_against(tables.waiting[number], ask)]
+    elder = [other for number, other in tables.waiting.items() if number < ask[0]]
+    return sorted([other[0] for other in elder if asks_are_against(other, ask)])
 
 
 def is_blocked(tables, ask):

@@ -167,6 +167,15 @@ class TextTest(DeskTest):
         self.assertEqual(read_desk(text), desk)
         self.assertEqual(read_desk(text).handles(0), ((0, 0), (HUGE, 0)))
 
+    def test_handles_below_0(self):
+        desk = desk_of(1)
+        for number in (-1, -10, 1 - HUGE):
+            self.assertEqual(desk.dup(0, 0, at=number), number)
+        self.assertIn("dup 0 0 -1\ndup 0 0 -10\ndup 0 0 -999", desk_text(desk))
+        self.assertEqual(read_desk(desk_text(desk)), desk)
+        self.assertEqual(read_desk(desk_text(desk)).handles(0), ((1 - HUGE, 0), (-10, 0), (-1, 0), (0, 0)))
+        self.assertEqual(desk.dup(0, -10), 1)
+
     def test_there_and_back_for_rows_of_deeds(self):
         for seed in range(150):
             pair = Pair(seed, files=("a", "no"), fair=seed % 2 == 0)
